@@ -1,1 +1,1 @@
-"""Help among regions: what each group of regions would pay alone, and fair shares of what they pay together."""
+"""Help among regions: what each group of regions would pay alone, fair shares of what they pay together; and debts."""

@@ -1,4 +1,4 @@
-"""What regions add, and the fair shares: by orders, by dividends and by potentials; and the swings."""
+"""What regions add, and the fair shares: by orders, by dividends and by potentials, in whole units; and the swings."""
 
 from sharedhelp.game import bit, holds, size
 from sharedhelp.ratio import lowest
@@ -36,6 +36,21 @@ def share(game, region):
 def shares(game):
     """The share of each region."""
     return [share(game, region) for region in range(game.n)]
+
+
+def rounded_shares(game):
+    """Each region's share in whole units, which come to the cost of all together."""
+    fractions = shares(game)
+    # The denominators divide n!, so the rests times n! are whole numbers, which can be compared.
+    unit = factorial(game.n)
+    rests = [numerator % denominator * (unit // denominator) for numerator, denominator in fractions]
+    told = [numerator // denominator for numerator, denominator in fractions]
+    wanting = game.cost_of_all() - sum(told)
+    # Sorting leaves equal rests in their order: the region with the less number comes first.
+    by_rest = sorted(range(game.n), key=lambda region: -rests[region])
+    for region in by_rest[:wanting]:
+        told[region] += 1
+    return told
 
 
 def dividends(game):

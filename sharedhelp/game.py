@@ -74,8 +74,3 @@ def peak_hour(demands):
     for row in demands:
         totals = row_sums(totals, row)
     return totals.index(max(totals))
-
-
-def game_sum(first, second):
-    """The game whose costs are the sums of those of two games with the same number of regions."""
-    return game_by_costs(first.n, row_sums(first.costs, second.costs))

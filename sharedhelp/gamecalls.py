@@ -5,10 +5,12 @@ where the call has none), and gives back the numbers that are answered. The chec
 refusals are due.
 """
 
-from sharedhelp.fair import added_in_order, dividends, potentials, shares, swings
-from sharedhelp.game import game_by_costs, game_by_demands, game_sum, peak_hour
-from sharedhelp.ratio import flat
+from sharedhelp.fair import added_in_order, dividends, potentials, rounded_shares, shares, swings
+from sharedhelp.game import game_by_costs, game_by_demands, peak_hour
+from sharedhelp.likeness import alike_pairs, idle_regions
+from sharedhelp.newgames import dual_game, game_sum, merged_game, renamed_game, scaled_game
 from sharedhelp.refusals import BadValue, NoDemands, NoGroup, UnlikeGames
+from sharedhelp.rows import check_length, check_within, flat, parts_of
 from sharedhelp.steady import first_dearer, shows_none_stable, stability
 
 MOST_REGIONS = 8
@@ -18,19 +20,7 @@ GREATEST_DEMAND = 1_000_000
 GREATEST_DENOMINATOR = 1_000_000
 GREATEST_TOLD_SHARE = 1_000_000_000_000
 GREATEST_TOLD_WEIGHT = 1_000_000
-
-
-def check_within(numbers, least, most):
-    """Refuse numbers one of which isn't from the least to the most."""
-    for number in numbers:
-        if not least <= number <= most:
-            raise BadValue()
-
-
-def check_length(row, length):
-    """Refuse a list that hasn't so many numbers."""
-    if len(row) != length:
-        raise BadValue()
+GREATEST_FACTOR = 1000
 
 
 def answer_game(holdings, numbers, row):
@@ -116,18 +106,11 @@ def answer_stable(holdings, numbers, row):
     return stability(game, numbers[1], row)
 
 
-def pairs_of(row):
-    """The list's numbers two by two."""
-    if len(row) % 2 != 0:
-        raise BadValue()
-    return [(row[place], row[place + 1]) for place in range(0, len(row), 2)]
-
-
 def answer_shows(holdings, numbers, row):
     """Whether the weights show that no shares are stable."""
     game = holdings.game_at(numbers[0])
     check_within([numbers[1]], 1, GREATEST_DENOMINATOR)
-    pairs = pairs_of(row)
+    pairs = parts_of(row, 2)
     for group, number in pairs:
         # That it is no group is -4 here, not -5.
         if not game.is_group(group):
@@ -156,6 +139,64 @@ def answer_sum(holdings, numbers, row):
     return [first.n]
 
 
+def answer_scale(holdings, numbers, row):
+    """Fill a slot with the game whose costs are a multiple of a game's costs."""
+    game = holdings.game_at(numbers[0])
+    holdings.check_slot(numbers[1])
+    check_within([numbers[2]], -GREATEST_FACTOR, GREATEST_FACTOR)
+    holdings.put(numbers[1], scaled_game(game, numbers[2]))
+    return [game.n]
+
+
+def answer_dual(holdings, numbers, row):
+    """Fill a slot with the game in which groups cost what they add to all the others."""
+    game = holdings.game_at(numbers[0])
+    holdings.check_slot(numbers[1])
+    holdings.put(numbers[1], dual_game(game))
+    return [game.n]
+
+
+def answer_rename(holdings, numbers, row):
+    """Fill a slot with the game of the regions told, in their order."""
+    game = holdings.game_at(numbers[0])
+    holdings.check_slot(numbers[1])
+    if len(row) == 0:
+        raise BadValue()
+    check_within(row, 0, game.n - 1)
+    if len(set(row)) != len(row):
+        raise BadValue()
+    holdings.put(numbers[1], renamed_game(game, row))
+    return [len(row)]
+
+
+def answer_merge(holdings, numbers, row):
+    """Fill a slot with the game in which the regions of a group count as one."""
+    game = holdings.game_at(numbers[0])
+    holdings.check_slot(numbers[1])
+    if numbers[2] == 0 or not game.is_group(numbers[2]):
+        raise NoGroup()
+    merged = merged_game(game, numbers[2])
+    holdings.put(numbers[1], merged)
+    return [merged.n]
+
+
+def answer_idle(holdings, numbers, row):
+    """The regions that add 0 to every group."""
+    regions = idle_regions(holdings.game_at(numbers[0]))
+    return [len(regions)] + regions
+
+
+def answer_alike(holdings, numbers, row):
+    """The pairs of regions that are alike."""
+    pairs = alike_pairs(holdings.game_at(numbers[0]))
+    return [len(pairs)] + flat(pairs)
+
+
+def answer_round(holdings, numbers, row):
+    """The share of each region in whole units."""
+    return rounded_shares(holdings.game_at(numbers[0]))
+
+
 # By the number of the call: what answers it, how many whole numbers it has, whether it has a list.
 GAME_CALLS = {
     0: (answer_game, 2, True),
@@ -172,4 +213,11 @@ GAME_CALLS = {
     11: (answer_shows, 2, True),
     12: (answer_peak, 1, False),
     13: (answer_sum, 3, False),
+    14: (answer_scale, 3, False),
+    15: (answer_dual, 2, False),
+    16: (answer_rename, 2, True),
+    17: (answer_merge, 3, False),
+    18: (answer_idle, 1, False),
+    19: (answer_alike, 1, False),
+    20: (answer_round, 1, False),
 }

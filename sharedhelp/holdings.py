@@ -1,5 +1,6 @@
 """The object that the calls are made on."""
 
+from sharedhelp.debts import Debts
 from sharedhelp.refusals import BadSlot, CostTooGreat, NoGame
 
 SLOTS = 8
@@ -7,10 +8,11 @@ GREATEST_COST = 1_000_000_000_000
 
 
 class Holdings:
-    """Eight slots, each with a game or, at first, with None."""
+    """Eight slots, each with a game or, at first, with None; and the debts."""
 
     def __init__(self):
         self.games = [None for slot in range(SLOTS)]
+        self.debts = Debts()
 
     def check_slot(self, slot):
         """Refuse a number that is no slot."""

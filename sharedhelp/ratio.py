@@ -14,11 +14,3 @@ def lowest(numerator, denominator):
     """The fraction in lowest terms; the denominator handed over is 1 at least."""
     divisor = common_divisor(abs(numerator), denominator)
     return (numerator // divisor, denominator // divisor)
-
-
-def flat(fractions):
-    """The numbers of all the fractions, one behind another."""
-    told = []
-    for fraction in fractions:
-        told.extend(fraction)
-    return told

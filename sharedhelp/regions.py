@@ -1,8 +1,16 @@
 """The interface: many calls on one object, told in one list, and their answers in another."""
 
+from sharedhelp.debtcalls import DEBT_CALLS
 from sharedhelp.gamecalls import GAME_CALLS
 from sharedhelp.holdings import Holdings
 from sharedhelp.refusals import Refusal
+
+
+def call_told(number):
+    """What answers the call of this number, how many whole numbers it has, whether it has a list."""
+    if number in DEBT_CALLS:
+        return DEBT_CALLS[number]
+    return GAME_CALLS[number]
 
 
 def answer_or_refusal(answer_call, holdings, numbers, row):
@@ -19,7 +27,7 @@ def answers(calls):
     told = []
     at = 0
     while at < len(calls):
-        call = GAME_CALLS[calls[at]]
+        call = call_told(calls[at])
         end = at + 1 + call[1]
         numbers = calls[at + 1:end]
         row = []

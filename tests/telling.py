@@ -62,6 +62,73 @@ def sums(a, b, to):
     return [13, a, b, to]
 
 
+def scale(s, to, k):
+    return [14, s, to, k]
+
+
+def dual(s, to):
+    return [15, s, to]
+
+
+def rename(s, to, regions):
+    return [16, s, to, len(regions)] + regions
+
+
+def merge(s, to, g):
+    return [17, s, to, g]
+
+
+def idle(s):
+    return [18, s]
+
+
+def alike(s):
+    return [19, s]
+
+
+def rounded(s):
+    return [20, s]
+
+
+def owe(a, b, n):
+    return [21, a, b, n]
+
+
+def debts():
+    return [22]
+
+
+def balances():
+    return [23]
+
+
+def settle():
+    return [24]
+
+
+def fewest():
+    return [25]
+
+
+def check(transfers):
+    return [26, len(transfers)] + transfers
+
+
+def clear():
+    return [27]
+
+
+def owing(wanted, hub):
+    """Calls of owe that give the houses these balances, which come to 0: all debts are with the hub."""
+    told = []
+    for house, balance in enumerate(wanted):
+        if house != hub and balance < 0:
+            told.append(owe(house, hub, -balance))
+        if house != hub and balance > 0:
+            told.append(owe(hub, house, balance))
+    return told
+
+
 def parted(told):
     """One list for each call out of the list of all answers."""
     parts = []

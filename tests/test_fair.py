@@ -1,9 +1,9 @@
 """share, by order, dividends, potentials and swing."""
 
-import itertools
 import unittest
 from fractions import Fraction
 
+from bywords import shares_by_words, uneven_costs
 from telling import ask, ask_last, by_order, costs, dividends, game, hours, potentials, share, swing
 
 BILLION = 10 ** 9
@@ -18,35 +18,8 @@ ADDED_UP = list(range(1, 256))
 ALL_ALONE = [0] * 254 + [1]
 
 
-def uneven_costs(n, seed):
-    """Costs, below 0 too, that follow no rule that a share could profit by."""
-    told = []
-    state = seed
-    for _ in range(2 ** n - 1):
-        state = (state * 1103515245 + 12345) % 2 ** 31
-        told.append((state >> 8) % 2001 - 1000)
-    return told
-
-
 def pairs(numbers):
     return [Fraction(numerator, denominator) for numerator, denominator in zip(numbers[0::2], numbers[1::2])]
-
-
-def added_by_words(told, order):
-    """What each region adds in the order, from the costs of groups 1, 2, 3, ..."""
-    added = [0] * len(order)
-    for place, region in enumerate(order):
-        before = sum(2 ** other for other in order[:place])
-        after = before + 2 ** region
-        added[region] = told[after - 1] - (told[before - 1] if before else 0)
-    return added
-
-
-def shares_by_words(n, told):
-    """The mean over all orders, order by order."""
-    orders = list(itertools.permutations(range(n)))
-    every = [added_by_words(told, order) for order in orders]
-    return [Fraction(sum(added[region] for added in every), len(orders)) for region in range(n)]
 
 
 class ShareTest(unittest.TestCase):

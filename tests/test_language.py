@@ -78,6 +78,18 @@ def is_plain(node, known):
     return isinstance(node, ast.Constant) and isinstance(node.value, (int, str, bool, type(None)))
 
 
+def is_call_of(node, names):
+    return isinstance(node, ast.Call) and isinstance(node.func, ast.Name) and node.func.id in names
+
+
+def is_walk(node):
+    """Whether the node is something that is walked on the spot, not kept."""
+    if is_call_of(node, ("zip", "enumerate", "reversed", "range")):
+        return True
+    return (isinstance(node, ast.Call) and isinstance(node.func, ast.Attribute)
+            and node.func.attr in ("items", "keys", "values"))
+
+
 class LanguageTest(unittest.TestCase):
     def check(self, wrong):
         """wrong: pairs of a source and a node that breaks the rule."""
@@ -190,6 +202,44 @@ class LanguageTest(unittest.TestCase):
             taken = set(source.imported()) | {node.name for node in source.classes}
             self.check([(source, node) for name, node in bound
                         if name in taken and not isinstance(node, ast.ClassDef)])
+
+    def test_walked_at_once(self):
+        takers = set("list tuple dict sorted sum any all enumerate zip min max".split())
+        for source in SOURCES:
+            walked = [node.iter for node in source.nodes if isinstance(node, (ast.For, ast.comprehension))]
+            walked += [node.args[0] for node in source.nodes if isinstance(node, ast.Call) and node.args
+                       and isinstance(node.func, ast.Name) and node.func.id in takers]
+            # What zip itself is handed further behind are plain lists here.
+            self.check([(source, node) for node in source.nodes if is_walk(node) and node not in walked])
+
+    def test_sets(self):
+        for source in SOURCES:
+            held = [node.args[0] for node in source.nodes if isinstance(node, ast.Call) and len(node.args) == 1
+                    and isinstance(node.func, ast.Name) and node.func.id in ("len", "sorted")]
+            held += [part for node in source.nodes if isinstance(node, ast.Compare)
+                     for part in [node.left] + node.comparators]
+            self.check([(source, node) for node in source.nodes
+                        if is_call_of(node, ("set", "frozenset")) and node not in held])
+            self.check([(source, node) for node in source.nodes if isinstance(node, ast.Set)])
+
+    def test_keywords(self):
+        known = {"sorted": ("key", "reverse"), "min": ("key", "default"), "max": ("key", "default"), "sum": ("start",),
+                 "enumerate": ("start",), "zip": ("strict",)}
+        for source in SOURCES:
+            self.check([(source, node) for node in source.nodes if isinstance(node, ast.Call) and node.keywords
+                        and not (isinstance(node.func, ast.Name)
+                                 and {word.arg for word in node.keywords} <= set(known.get(node.func.id, ())))])
+
+    def test_top_lists_are_only_read(self):
+        for source in SOURCES:
+            kept = [target.id for node in source.tree.body if isinstance(node, ast.Assign) for target in node.targets
+                    if isinstance(node.value, (ast.List, ast.Dict))]
+            kept += [name for name in source.imported() if name.endswith("_CALLS")]
+            read = [node.value for node in source.nodes
+                    if isinstance(node, ast.Subscript) and isinstance(node.ctx, ast.Load)]
+            read += [part for node in source.nodes if isinstance(node, ast.Compare) for part in node.comparators]
+            self.check([(source, node) for node in source.nodes if isinstance(node, ast.Name)
+                        and isinstance(node.ctx, ast.Load) and node.id in kept and node not in read])
 
     def test_attributes(self):
         methods = {part.name for source in SOURCES for node in source.classes for part in node.body
